@@ -239,3 +239,19 @@ func TestCollectManyRoots(t *testing.T) {
 		}
 	}
 }
+
+// P8.3: a root that refers to nothing stays, also if an object comes to stand just there; the next collection then follows it.
+func TestRootBecomesReference(t *testing.T) {
+	h := made(t, 16)
+	put(t, h, 9, heap.Num(1))
+	put(t, h, 1)
+	put(t, h, 2)
+	roots := h.Collect([]uint64{ptr(2), ptr(3), ptr(4)})
+	if !slices.Equal(roots, []uint64{ptr(2), ptr(1), ptr(2)}) || !sameObjects(contents(h), []object{{1, 1, nil}, {2, 2, nil}}) {
+		t.Fatalf("roots %v, objects %v", roots, contents(h))
+	}
+	roots = h.Collect(roots)
+	if !slices.Equal(roots, []uint64{ptr(1), ptr(2), ptr(1)}) || !sameObjects(contents(h), []object{{1, 2, nil}, {2, 1, nil}}) {
+		t.Errorf("roots %v, objects %v", roots, contents(h))
+	}
+}
